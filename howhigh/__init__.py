@@ -1,0 +1,1 @@
+"""Howhigh: how great the numbers of a program can become."""

@@ -1,0 +1,371 @@
+"""What the tests share: short ways to write programs, odd objects, and a plain second telling of sections 2 and 3."""
+
+import itertools
+import random
+
+from howhigh.errors import BadProgram, HighError, NoName, TooLong
+from howhigh.programs import Program
+from howhigh.runs import Run
+
+
+def product(**powers):
+    return tuple(sorted(powers.items()))
+
+
+def add(name, *terms):
+    return ("add", name, terms or ((1, ()),))
+
+
+def become(name, *terms):
+    return ("set", name, terms)
+
+
+def lift(name, coefficient, **powers):
+    return ("lift", name, (coefficient, product(**powers)))
+
+
+def loop(name, *statements):
+    return ("loop", name, statements)
+
+
+def either(*blocks):
+    return ("either", blocks)
+
+
+def orders(*blocks):
+    return ("orders", blocks)
+
+
+def call(word):
+    return ("call", word)
+
+
+def term(coefficient, **powers):
+    return (coefficient, product(**powers))
+
+
+def program_p():
+    """The p of the document's examples."""
+    return Program(("a", "b", "x"), {}, (loop("a", add("x", term(1, b=1)), add("b", term(1))),))
+
+
+def program_r():
+    """The r of the document's examples."""
+    return Program(("a", "b", "x"), {}, (either((add("x", term(1, a=1)),), (add("b", term(1, a=1)),)),))
+
+
+def nested(depth, wrap=lambda thing: (thing,)):
+    thing = ()
+    for _ in range(depth):
+        thing = wrap(thing)
+    return thing
+
+
+def odd_things():
+    """Objects of the kinds of 0.3, new ones each time."""
+    return [
+        None, True, False, 0, 1, 2, 3, -1, 9, 10, 10 ** 29, "", "a", "b", "zz", "A", "a1", "#", "abcdefghi", "add", "loop",
+        b"", b"a", bytearray(b"a"), [], ["a"], [1, 2], [()], (), ("a",), ("a", "b"), (1,), (True,), (1, ()), ((1, ()),),
+        ((1, (("a", 1),)),), [(1, ())], {}, {"a": 1}, {"a": ()}, {1: 2}, {(): ()}, range(3), slice(1), Ellipsis,
+        NotImplemented, int, len, object(), iter([1]), memoryview(b"a"), ValueError("a"), HighError(), NoName("a"),
+        BadProgram, program_r(), Run(program_r(), {"a": 1, "b": 1, "x": 1}), nested(60), nested(60, lambda thing: [thing]),
+        nested(60, lambda thing: {"a": thing}), nested(60, lambda thing: (thing, thing)),
+        nested(19, lambda thing: (("either", (thing, thing, thing)),)), nested(29, lambda thing: (("loop", "a", thing),)),
+    ]
+
+
+def replaced(thing, odd):
+    """All that thing becomes with odd in the place of it or of one of the things inside it."""
+    yield odd
+    if isinstance(thing, tuple):
+        for k, item in enumerate(thing):
+            for fresh in replaced(item, odd):
+                yield thing[:k] + (fresh,) + thing[k + 1:]
+    if isinstance(thing, dict):
+        for key in thing:
+            for fresh in replaced(thing[key], odd):
+                yield {**thing, key: fresh}
+
+
+def caught(action, *arguments, **named):
+    """The error that the call raises, as a tuple of its class's name and what it keeps; None if it raises none."""
+    try:
+        action(*arguments, **named)
+    except HighError as error:
+        return (type(error).__name__, *vars(error).values())
+    return None
+
+
+# A second telling of section 2: what is wrong with a program, by really writing it out.
+
+
+def naive_name(thing):
+    return type(thing) is str and 1 <= len(thing) <= 8 and all(letter in "abcdefghijklmnopqrstuvwxyz" for letter in thing)
+
+
+def naive_product(names, thing):
+    if type(thing) is not tuple or not all(type(pair) is tuple and len(pair) == 2 for pair in thing[:9]):
+        return False
+    if not all(type(name) is str and name in names and type(power) is int and power >= 1 for name, power in thing[:9]):
+        return False
+    return len(thing) <= 3 and sorted({name for name, power in thing}) == [name for name, power in thing] \
+        and sum(power for name, power in thing) <= 3
+
+
+def naive_term(names, thing):
+    return type(thing) is tuple and len(thing) == 2 and type(thing[0]) is int and 1 <= thing[0] <= 9 \
+        and naive_product(names, thing[1])
+
+
+def naive_sum(names, thing):
+    if type(thing) is not tuple or not 1 <= len(thing) <= 3 or not all(naive_term(names, one) for one in thing):
+        return False
+    return sorted({one[1] for one in thing}) == [one[1] for one in thing]
+
+
+class TooWide(Exception):
+    pass
+
+
+def naive_block(names, bodies, words, block, in_loop, spent):
+    """The block written out, with TooWide for what is none, or far too long."""
+    if type(block) is not tuple:
+        raise TooWide()
+    out = []
+    for statement in block:
+        spent.append(statement)
+        if len(spent) > 5000 or type(statement) is not tuple or not statement or type(statement[0]) is not str:
+            raise TooWide()
+        word, rest = statement[0], statement[1:]
+        if word == "call" and len(rest) == 1 and type(rest[0]) is str and rest[0] in words:
+            further = [other for other in bodies if other > rest[0]]
+            out.extend(naive_block(names, bodies, further, bodies[rest[0]], True, spent))
+        elif word == "loop" and len(rest) == 2 and type(rest[0]) is str and rest[0] in names:
+            out.append(("loop", rest[0], naive_block(names, bodies, words, rest[1], True, spent)))
+        elif word in ("either", "orders") and len(rest) == 1 and type(rest[0]) is tuple and 2 <= len(rest[0]) <= 3:
+            blocks = [naive_block(names, bodies, words, inner, in_loop, spent) for inner in rest[0]]
+            out.append((word, tuple(blocks)))
+        elif word in ("add", "lift", "set") and len(rest) == 2 and type(rest[0]) is str and rest[0] in names:
+            good = naive_term(names, rest[1]) if word == "lift" else naive_sum(names, rest[1])
+            if not good or word == "set" and (in_loop or all(one[1] == () for one in rest[1])):
+                raise TooWide()
+            out.append(statement)
+        else:
+            raise TooWide()
+    return tuple(out)
+
+
+def inner_blocks(statement):
+    if statement[0] == "loop":
+        return [statement[2]]
+    return list(statement[1]) if statement[0] in ("either", "orders") else []
+
+
+def all_statements(block):
+    for statement in block:
+        yield statement
+        for inner in inner_blocks(statement):
+            yield from all_statements(inner)
+
+
+def depth(block, words):
+    return max([0] + [(statement[0] in words) + max(depth(inner, words) for inner in inner_blocks(statement))
+                      for statement in block if inner_blocks(statement)])
+
+
+def naive_ways(block):
+    """All ways of a block that is written out, in any order."""
+    found = [()]
+    for statement in block:
+        if statement[0] == "either":
+            further = [(k,) + way for k, inner in enumerate(statement[1]) for way in naive_ways(inner)]
+        elif statement[0] == "orders":
+            further = []
+            for k, order in enumerate(sorted(itertools.permutations(range(len(statement[1]))))):
+                joined = sum((statement[1][number] for number in order), ())
+                further.extend((k,) + way for way in naive_ways(joined))
+        else:
+            continue
+        found = [way + behind for way in found for behind in further]
+        if len(found) > 10000:
+            raise TooWide()
+    return found
+
+
+def naive_wrong_part(names, bodies, main):
+    """The part of BadProgram, None for a right program."""
+    if type(names) is not tuple or not 1 <= len(names) <= 4 or not all(naive_name(name) for name in names) \
+            or sorted(set(names)) != list(names):
+        return "names"
+    if type(bodies) is not dict or len(bodies) > 4 or not all(naive_name(word) for word in bodies):
+        return "bodies"
+    try:
+        for word in bodies:
+            further = [other for other in bodies if other > word]
+            if len(list(all_statements(naive_block(names, bodies, further, bodies[word], True, [])))) > 40:
+                return "bodies"
+    except TooWide:
+        return "bodies"
+    try:
+        return None if naive_fits(naive_block(names, bodies, list(bodies), main, False, [])) else "main"
+    except TooWide:
+        return "main"
+
+
+def naive_fits(main):
+    """Whether a main that is written out keeps to the bounds."""
+    found = list(all_statements(main))
+    if len(found) > 40 or sum(statement[0] in ("add", "lift", "set") for statement in found) > 12:
+        return False
+    if depth(main, ("loop", "either", "orders")) > 8 or depth(main, ("loop",)) > 2:
+        return False
+    blocks = [main] + [statement[2] for statement in found if statement[0] == "loop"]
+    return all(len(naive_ways(block)) <= 24 for block in blocks)
+
+
+# A second telling of section 3.
+
+
+def naive_value(one, numbers):
+    worth = 1
+    for name, power in one:
+        worth *= numbers[name] ** power
+    return worth
+
+
+def naive_total(terms, numbers):
+    return sum(coefficient * naive_value(one, numbers) for coefficient, one in terms)
+
+
+class NaiveRun:
+    """A run that asks choose(kind, many) for each choice; told holds what it asked and was answered."""
+
+    def __init__(self, program, starts, choose):
+        self.numbers = dict(starts)
+        self.steps = 0
+        self.told = []
+        self.choose = choose
+        self.do(naive_block(program.names, program.bodies, list(program.bodies), program.main, False, []))
+
+    def ask(self, kind, many):
+        number = self.choose(kind, many)
+        self.told.append(((kind, many), number))
+        return number
+
+    def do(self, block):
+        for statement in block:
+            word = statement[0]
+            if word == "either":
+                self.do(statement[1][self.ask("either", len(statement[1]))])
+            elif word == "orders":
+                every = sorted(itertools.permutations(range(len(statement[1]))))
+                for number in every[self.ask("orders", len(every))]:
+                    self.do(statement[1][number])
+            elif word == "loop":
+                for _ in range(self.ask("loop", self.numbers[statement[1]])):
+                    self.steps += 1
+                    self.do(statement[2])
+            else:
+                self.steps += 1
+                self.do_row(*statement)
+
+    def do_row(self, word, name, content):
+        if word == "add":
+            self.numbers[name] += naive_total(content, self.numbers)
+        elif word == "set":
+            self.numbers[name] = naive_total(content, self.numbers)
+        else:
+            self.numbers[name] = max(self.numbers[name], content[0] * naive_value(content[1], self.numbers))
+
+
+def some_product(rng, names):
+    powers = {}
+    for _ in range(rng.choice([0, 1, 1, 1, 2, 3])):
+        name = rng.choice(names)
+        powers[name] = powers.get(name, 0) + 1
+    return product(**powers)
+
+
+def some_row(rng, names, sets):
+    word = rng.choice(["add", "add", "lift"] + ["set"] * sets)
+    name = rng.choice(names)
+    if word == "lift":
+        return (word, name, (rng.randint(1, 3), some_product(rng, names)))
+    products = sorted({some_product(rng, names) for _ in range(rng.choice([1, 1, 2, 3]))})
+    if word == "set" and products == [()]:
+        products = [((name, 1),)]
+    return (word, name, tuple((rng.randint(1, 3), one) for one in products))
+
+
+def some_block(rng, names, words, sets, deep, longest=3):
+    out = []
+    for _ in range(rng.randint(0, longest)):
+        kinds = ["row"] * 4 + ["call"] * bool(words) + ["loop", "either", "orders"] * (deep > 0)
+        kind = rng.choice(kinds)
+        if kind == "row":
+            out.append(some_row(rng, names, sets))
+        elif kind == "call":
+            out.append(call(rng.choice(words)))
+        elif kind == "loop":
+            out.append(("loop", rng.choice(names), some_block(rng, names, words, False, deep - 1, 2)))
+        else:
+            blocks = [some_block(rng, names, words, sets, deep - 1, 2) for _ in range(rng.choice([2, 2, 3]))]
+            out.append((kind, tuple(blocks)))
+    return tuple(out)
+
+
+def some_parts(rng, deep=3):
+    """Names, bodies and main, mostly of a right program."""
+    names = ("a", "b", "x", "y")[:rng.randint(1, 4)]
+    words = sorted(rng.sample(["do", "it", "so", "then"], rng.choice([0, 1, 2])))
+    bodies = {word: some_block(rng, names, [other for other in words if other > word], False, deep - 1, 2) for word in words}
+    return names, bodies, some_block(rng, names, words, True, deep)
+
+
+def some_programs(seed, many, deep=3):
+    """So many right programs, always the same ones for the same seed."""
+    rng = random.Random(seed)
+    found = []
+    while len(found) < many:
+        parts = some_parts(rng, deep)
+        if naive_wrong_part(*parts) is None:
+            found.append(Program(*parts))
+    return found
+
+
+def some_starts(rng, program, greatest):
+    return {name: rng.randint(1, greatest) for name in program.names}
+
+
+def all_ends(program, starts, most):
+    """The set of all tuples at the ends of runs; None if there are too many runs, or one has more than 60 steps."""
+    found = set()
+    run = Run(program, starts)
+    tried = [0]
+
+    def follow():
+        tried[0] += 1
+        if tried[0] > most or run.steps > 60:
+            return False
+        if run.choice is None:
+            found.add(tuple(run.numbers[name] for name in program.names))
+            return True
+        kind, many = run.choice
+        for number in reversed(range(many + (kind == "loop"))):
+            run.choose(number)
+            if not follow():
+                return False
+            run.back()
+        return True
+
+    try:
+        return found if follow() else None
+    except TooLong:
+        return None
+
+
+def maxima(tuples):
+    """The ascending list of those over which no other one stands."""
+    def stands(one, other):
+        return one != other and all(a >= b for a, b in zip(one, other))
+    return sorted(one for one in tuples if not any(stands(other, one) for other in tuples))

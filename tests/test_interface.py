@@ -1,0 +1,50 @@
+"""The names and arguments of the interface, each defined in the file under which it is listed."""
+
+import importlib
+import inspect
+import unittest
+
+from helper import program_r
+
+FUNCTIONS = {
+    "sums": {"value": "product numbers", "total": "terms numbers", "plus": "one other", "times": "one other", "put": "terms sums",
+             "term_by_term": "one other"},
+    "programs": {"rows": "program", "without_rows": "program numbers"},
+    "ways": {"ways": "program", "straight": "program way"},
+    "runs": {"played": "program starts choices"},
+    "fullruns": {"full_run": "program way starts"},
+    "frontiers": {"frontier": "program starts", "choices_to": "program starts numbers", "greatest": "program starts name"},
+}
+METHODS = {
+    ("programs", "Program"): {"__init__": "self names bodies main", "__eq__": "self other"},
+    ("runs", "Run"): {"__init__": "self program starts", "choose": "self number", "chosen": "self", "back": "self", "copy": "self",
+                      "trying": "self action"},
+}
+
+
+class InterfaceTest(unittest.TestCase):
+    def test_functions(self):
+        for module, functions in FUNCTIONS.items():
+            for name, arguments in functions.items():
+                found = getattr(importlib.import_module("howhigh." + module), name)
+                self.assertEqual(found.__module__, "howhigh." + module)
+                self.assertEqual(list(inspect.signature(found).parameters), arguments.split(), name)
+
+    def test_methods(self):
+        for (module, name), methods in METHODS.items():
+            found = getattr(importlib.import_module("howhigh." + module), name)
+            self.assertEqual(found.__module__, "howhigh." + module)
+            for method, arguments in methods.items():
+                self.assertEqual(list(inspect.signature(vars(found)[method]).parameters), arguments.split(), method)
+
+    def test_attributes(self):
+        one = program_r()
+        for attribute in ["names", "bodies", "main"]:
+            self.assertTrue(hasattr(one, attribute))
+        run = importlib.import_module("howhigh.runs").Run(one, {"a": 1, "b": 1, "x": 1})
+        for attribute in ["choice", "numbers", "steps"]:
+            self.assertTrue(hasattr(run, attribute))
+
+
+if __name__ == "__main__":
+    unittest.main()

@@ -14,6 +14,7 @@ MOST_ROWS = 12
 MOST_DEEP = 8
 MOST_LOOPS_DEEP = 2
 MOST_WAYS = 24
+MOST_PAPER_POWER = 99
 
 
 def is_one_of(names, thing):
@@ -21,16 +22,21 @@ def is_one_of(names, thing):
     return isinstance(thing, str) and thing in names
 
 
-def is_small_product(names, thing):
-    """Whether it is a product of the names of a degree that a program may have."""
-    if not isinstance(thing, tuple) or len(thing) > MOST_DEGREE:
+def is_product(names, thing):
+    """Whether it is a product of the names."""
+    if not isinstance(thing, tuple) or len(thing) > len(names):
         return False
     for pair in thing:
         if not isinstance(pair, tuple) or len(pair) != 2 or not is_one_of(names, pair[0]):
             return False
         if not is_integer(pair[1]) or pair[1] < 1:
             return False
-    return ascending([pair[0] for pair in thing]) and sum([pair[1] for pair in thing]) <= MOST_DEGREE
+    return ascending([pair[0] for pair in thing])
+
+
+def is_small_product(names, thing):
+    """Whether it is a product of the names of a degree that a program may have."""
+    return is_product(names, thing) and sum([power for _, power in thing]) <= MOST_DEGREE
 
 
 def is_small_term(names, thing):
@@ -46,6 +52,19 @@ def is_small_sum(names, thing):
     if not isinstance(thing, tuple) or not 1 <= len(thing) <= MOST_TERMS:
         return False
     return all([is_small_term(names, term) for term in thing]) and ascending([term[1] for term in thing])
+
+
+def is_loop_sum(names, thing):
+    """Whether it is a sum of the names and of "#" that a loop paper may have."""
+    if not isinstance(thing, tuple) or not thing:
+        return False
+    letters = ("#", *names)
+    for term in thing:
+        if not isinstance(term, tuple) or len(term) != 2 or not is_integer(term[0]) or term[0] < 1:
+            return False
+        if not is_product(letters, term[1]) or not all([power <= MOST_PAPER_POWER for _, power in term[1]]):
+            return False
+    return ascending([term[1] for term in thing])
 
 
 class BlockForm:

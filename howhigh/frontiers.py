@@ -6,8 +6,9 @@ of the frontier is lost so. With each tuple goes how it was reached: None at the
 the pair of the last choice and how the tuple ahead of it was reached.
 """
 
-from howhigh.errors import NoName, NotTop
+from howhigh.errors import NotTop
 from howhigh.kinds import is_integer
+from howhigh.names import check_name
 from howhigh.starts import check_starts
 from howhigh.statements import CHOICE_WORDS, choices_at, chosen_blocks
 from howhigh.tallies import number_behind
@@ -36,8 +37,7 @@ def choices_to(program, starts, numbers):
 def greatest(program, starts, name):
     """The greatest number of the name at the end of a run."""
     tops = _tops(program, starts)
-    if not isinstance(name, str) or name not in program.names:
-        raise NoName(name)
+    check_name(program, name)
     at = program.names.index(name)
     return max([numbers[at] for numbers in tops])
 

@@ -23,3 +23,13 @@ def is_row(thing):
 def ascending(things):
     """Whether a row of things that can be compared is strictly ascending."""
     return all([things[k] < things[k + 1] for k in range(len(things) - 1)])
+
+
+def is_made(thing, word, many):
+    """Whether it is a tuple of so many things, the first one this word."""
+    return isinstance(thing, tuple) and len(thing) == many and isinstance(thing[0], str) and thing[0] == word
+
+
+def is_number_of(things, thing):
+    """Whether it is the number, from 0, of one of the things."""
+    return is_integer(thing) and 0 <= thing < len(things)

@@ -3,7 +3,7 @@
 from howhigh.errors import BadProgram, BadRows
 from howhigh.forms import are_bodies, are_names, is_main
 from howhigh.kinds import ascending, is_integer, is_row
-from howhigh.statements import ROW_WORDS, blocks_in, with_blocks, written_main
+from howhigh.statements import ROW_WORDS, blocks_in, whole_of, with_blocks
 
 
 class Program:
@@ -22,7 +22,7 @@ class Program:
         self.names = names
         self._bodies = {word: bodies[word] for word in sorted(bodies)}
         self.main = main
-        self.whole = written_main(main, self._bodies)
+        self.whole = whole_of(main, self._bodies)
 
     @property
     def bodies(self):

@@ -35,13 +35,18 @@ def written_out(block, bodies):
     return tuple(out)
 
 
-def written_main(main, bodies):
-    """The main of a program with these bodies, written out."""
+def whole_of(block, bodies):
+    """A block of a program with these bodies, written out."""
     known = {}
     # A body calls greater words only: the greatest one comes first.
     for word in sorted(bodies, reverse=True):
         known[word] = written_out(bodies[word], known)
-    return written_out(main, known)
+    return written_out(block, known)
+
+
+def terms_of(row):
+    """The terms of a row: those of its sum, or the one of a lift."""
+    return (row[2],) if row[0] == "lift" else row[2]
 
 
 def orders_of(many):

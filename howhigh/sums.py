@@ -38,6 +38,20 @@ def product_of(one, other):
     return tuple(sorted(powers.items()))
 
 
+def product_raised(product, power):
+    """The product to the power."""
+    return tuple([(name, many * power) for name, many in product])
+
+
+def product_put(product, worths):
+    """The product in which each name stands for its product in the dict worths."""
+    powers = {}
+    for name, power in product:
+        for further, many in worths[name]:
+            powers[further] = powers.get(further, 0) + many * power
+    return tuple(sorted(powers.items()))
+
+
 def gathered(terms):
     """The terms as a sum: those of the same product made one, the products ascending."""
     coefficients = {}
@@ -60,7 +74,7 @@ def sum_raised(terms, power):
     """The sum to the power."""
     if len(terms) == 1:
         coefficient, product = terms[0]
-        return ((raised(coefficient, power), tuple([(name, many * power) for name, many in product])),)
+        return ((raised(coefficient, power), product_raised(product, power)),)
     out = ((1, ()),)
     for _ in range(power):
         out = times(out, terms)

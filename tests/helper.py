@@ -369,3 +369,185 @@ def maxima(tuples):
     def stands(one, other):
         return one != other and all(a >= b for a, b in zip(one, other))
     return sorted(one for one in tuples if not any(stands(other, one) for other in tuples))
+
+
+# A second telling of sections 4 to 7.
+
+
+def handed(flat):
+    """All pairs (giver, name), the giver handed on to the name, directly or by other names."""
+    found = {(giver, row[1]) for row in flat for giver, _ in row[3]}
+    while True:
+        more = found | {(a, d) for a, b in found for c, d in found if b == c}
+        if more == found:
+            return found
+        found = more
+
+
+def is_exempt(row, part):
+    return row[0] == "lift" and row[2] == 1 and row[3] in [((name, 1),) for name in part]
+
+
+def naive_parts(names, flat):
+    pairs = handed(flat)
+    waiting = {tuple(b for b in names if a == b or (a, b) in pairs and (b, a) in pairs) for a in names}
+    found = []
+    while waiting:
+        free = [part for part in waiting
+                if not any((a, b) in pairs for other in waiting - {part} for a in other for b in part)]
+        found.append(min(free))
+        waiting.remove(min(free))
+    return found
+
+
+def naive_doubling(names, flat):
+    return [part for part in naive_parts(names, flat)
+            if any(row[1] in part and any(name in part for name, _ in row[3]) and not is_exempt(row, part) for row in flat)]
+
+
+def naive_calm(names, flat):
+    """The names whose parts neither double nor are given from parts that double."""
+    wild = {name for part in naive_doubling(names, flat) for name in part}
+    return [name for name in names if name not in wild and not any((giver, name) in handed(flat) for giver in wild)]
+
+
+def multiplied(pairs):
+    """The product of the products, each to its power, of a list of pairs (product, power)."""
+    powers = {}
+    for one, power in pairs:
+        for name, many in one:
+            powers[name] = powers.get(name, 0) + many * power
+    return tuple(sorted(powers.items()))
+
+
+def put_sum(coefficient, one, sums):
+    """A term with sums in the place of names, as a dict from products to coefficients."""
+    found = {(): coefficient}
+    for name, power in one:
+        for _ in range(power):
+            grown = {}
+            for done, many in found.items():
+                for further, product_there in sums[name]:
+                    joined = multiplied([(done, 1), (product_there, 1)])
+                    grown[joined] = grown.get(joined, 0) + many * further
+            found = grown
+    return found
+
+
+def later(terms):
+    """A dict of terms in which "#" + 1 stands for "#"."""
+    found = {}
+    for one, coefficient in terms.items():
+        sums = {name: ((1, ((name, 1),)),) for name, _ in one}
+        sums["#"] = ((1, ()), (1, (("#", 1),)))
+        for further, many in put_sum(coefficient, one, sums).items():
+            found[further] = found.get(further, 0) + many
+    return found
+
+
+def summed(*dicts):
+    found = {}
+    for terms in dicts:
+        for one, coefficient in terms.items():
+            found[one] = found.get(one, 0) + coefficient
+    return found
+
+
+def is_covered(one, other):
+    return all(other.get(key, 0) >= coefficient for key, coefficient in one.items())
+
+
+def naive_product_over(names, thing):
+    return type(thing) is tuple and all(type(pair) is tuple and len(pair) == 2 for pair in thing) \
+        and all(type(name) is str and name in names and type(power) is int and power >= 1 for name, power in thing) \
+        and sorted({name for name, _ in thing}) == [name for name, _ in thing]
+
+
+def naive_is_loop_paper(names, flat, thing):
+    """The conditions of 5.1, one by one."""
+    letters = ["#", *names]
+    if type(thing) is not tuple or not all(type(pair) is tuple and len(pair) == 2 for pair in thing):
+        return False
+    sums = {}
+    for part, terms in thing:
+        if type(part) is not tuple or not part or not all(type(name) is str and name in names for name in part):
+            return False
+        if list(part) != sorted(set(part)) or any(name in sums for name in part):
+            return False
+        if type(terms) is not tuple or not terms or not all(type(one) is tuple and len(one) == 2 for one in terms):
+            return False
+        if not all(type(c) is int and c >= 1 and naive_product_over(letters, one) for c, one in terms):
+            return False
+        if sorted({one for _, one in terms}) != [one for _, one in terms] or any(q > 99 for _, one in terms for _, q in one):
+            return False
+        bound = {one: c for c, one in terms}
+        rows = [row for row in flat if row[1] in part and not is_exempt(row, part)]
+        if any(((name, 1),) not in bound for name in part) or any(name not in sums for row in rows for name, _ in row[3]):
+            return False
+        added = later(summed(*[put_sum(row[2], row[3], sums) for row in rows if row[0] == "add"]))
+        if not is_covered(summed(bound, added), later(bound)):
+            return False
+        for row in rows:
+            if row[0] == "lift" and not is_covered(summed(later(put_sum(row[2], row[3], sums)), added), later(bound)):
+                return False
+        for name in part:
+            sums[name] = terms
+    return True
+
+
+def naive_loop_products(names, flat, most):
+    """For each name all products of its loop trees, found again and again; None if there are more than most in all."""
+    found = {name: {((name, 1),)} for name in names}
+    while True:
+        many = sum(len(found[name]) for name in names)
+        if many > most:
+            return None
+        for word, name, _, one in flat:
+            for chosen in itertools.product(*[sorted(found[other]) for other, _ in one]):
+                pairs = [(top, power) for top, (_, power) in zip(chosen, one)]
+                found[name].add(multiplied(pairs + [((("#", 1),), 1)] * (word == "add")))
+        if sum(len(found[name]) for name in names) == many:
+            return found
+
+
+def weighs(one, heading):
+    return sum(power * heading[name] for name, power in one)
+
+
+def are_weights(one, row, found):
+    """Whether they are weights of the product against the row, by the words of 7.1."""
+    if type(found) is not tuple or len(found) != len(row) or not all(type(x) is int and x >= 0 for x in found) or not any(found):
+        return False
+    names = {name for other in [one, *row] for name, _ in other}
+    return all(sum(found) * dict(one).get(name, 0) <= sum(x * dict(other).get(name, 0) for x, other in zip(found, row))
+               for name in names)
+
+
+def is_direction(one, row, found):
+    """Whether it is a direction for the product against the row, by the words of 7.2."""
+    names = {name for other in [one, *row] for name, _ in other}
+    if type(found) is not dict or set(found) != names or not all(type(x) is int and x >= 0 for x in found.values()):
+        return False
+    return all(weighs(one, found) > weighs(other, found) for other in row)
+
+
+def naive_lean(below, products):
+    """The lean tuple, by the words of 7.3 and the below that is handed in."""
+    different = sorted(set(products))
+    if len(different) == 1:
+        return tuple(different)
+    return tuple(one for one in different if not below(one, [other for other in different if other != one]))
+
+
+def some_flat(rng, most_names=4, most_rows=5, most_degree=4):
+    """Names and flat rows over them, likely with rings."""
+    names = sorted(rng.sample(["a", "b", "c", "d", "x", "y"], rng.randint(1, most_names)))
+    found = {}
+    for _ in range(rng.randint(0, most_rows)):
+        powers = {}
+        for _ in range(rng.choice([0, 1, 1, 1, 2, 2, most_degree])):
+            name = rng.choice(names)
+            powers[name] = powers.get(name, 0) + 1
+        found[rng.choice(["add", "lift", "lift"]), rng.choice(names), product(**powers)] = rng.choice([1, 1, 1, 2, 5])
+    rows = tuple(sorted((word, name, c, one) for (word, name, one), c in found.items()))
+    return (tuple(names) if rng.randint(0, 1) else names), rows

@@ -13,6 +13,10 @@ FUNCTIONS = {
     "ways": {"ways": "program", "straight": "program way"},
     "runs": {"played": "program starts choices"},
     "fullruns": {"full_run": "program way starts"},
+    "flats": {"flat": "program loop", "parts": "names flat", "doubling": "names flat"},
+    "looppapers": {"loop_paper": "names flat", "is_loop_paper": "names flat thing"},
+    "looptrees": {"is_loop_tree": "names flat name thing", "loop_product": "names flat name tree", "loop_heights": "names flat"},
+    "hulls": {"below": "product products", "weights": "product products", "direction": "product products", "lean": "products"},
     "frontiers": {"frontier": "program starts", "choices_to": "program starts numbers", "greatest": "program starts name"},
 }
 METHODS = {

@@ -4,8 +4,10 @@ import itertools
 import random
 
 from howhigh.errors import BadProgram, HighError, NoName, TooLong
+from howhigh.flats import flat
 from howhigh.programs import Program
 from howhigh.runs import Run
+from howhigh.ways import straight
 
 
 def product(**powers):
@@ -244,6 +246,7 @@ class NaiveRun:
         self.numbers = dict(starts)
         self.steps = 0
         self.told = []
+        self.deep = 0
         self.choose = choose
         self.do(naive_block(program.names, program.bodies, list(program.bodies), program.main, False, []))
 
@@ -264,7 +267,9 @@ class NaiveRun:
             elif word == "loop":
                 for _ in range(self.ask("loop", self.numbers[statement[1]])):
                     self.steps += 1
+                    self.deep += 1
                     self.do(statement[2])
+                    self.deep -= 1
             else:
                 self.steps += 1
                 self.do_row(*statement)
@@ -276,6 +281,27 @@ class NaiveRun:
             self.numbers[name] = naive_total(content, self.numbers)
         else:
             self.numbers[name] = max(self.numbers[name], content[0] * naive_value(content[1], self.numbers))
+
+
+class WayRun(NaiveRun):
+    """A run that chooses by the way outside loops, and at random in them; TooLong where it becomes too long."""
+
+    def __init__(self, program, way, starts, rng):
+        self.way = list(way)
+        self.rng = rng
+        super().__init__(program, starts, self.pick)
+
+    def pick(self, kind, many):
+        if kind == "loop" and (many > 300 or self.steps > 1000):
+            raise TooLong()
+        if kind == "loop":
+            return self.rng.choice([0, many, self.rng.randint(0, many)])
+        return self.rng.randrange(many) if self.deep else self.way.pop(0)
+
+    def do_row(self, word, name, content):
+        super().do_row(word, name, content)
+        if self.numbers[name] > 10 ** 1000:
+            raise TooLong()
 
 
 def some_product(rng, names):
@@ -330,6 +356,31 @@ def some_programs(seed, many, deep=3):
         parts = some_parts(rng, deep)
         if naive_wrong_part(*parts) is None:
             found.append(Program(*parts))
+    return found
+
+
+def loopy_programs(seed, many):
+    """So many right programs, always the same ones, with rows and loops of few rows one behind the other."""
+    rng = random.Random(seed)
+    found = []
+    while len(found) < many:
+        names = ("a", "b", "x", "y")[:rng.randint(2, 4)]
+        main = []
+        for _ in range(rng.randint(1, 4)):
+            block = tuple(some_row(rng, names, False) for _ in range(rng.randint(1, 3)))
+            kind = rng.choice(["loop", "loop", "loop", "row", "set", "inner", "either"])
+            if kind == "loop":
+                main.append(("loop", rng.choice(names), block))
+            elif kind == "row":
+                main.append(some_row(rng, names, False))
+            elif kind == "set":
+                main.append(("set", rng.choice(names), ((1, ((rng.choice(names), 1),)),)))
+            elif kind == "inner":
+                main.append(("loop", rng.choice(names), (("loop", rng.choice(names), block[:1]), *block[1:])))
+            else:
+                main.append(("either", (block, (("loop", rng.choice(names), block[:1]),))))
+        if naive_wrong_part(names, {}, tuple(main)) is None:
+            found.append(Program(names, {}, tuple(main)))
     return found
 
 
@@ -551,3 +602,263 @@ def some_flat(rng, most_names=4, most_rows=5, most_degree=4):
         found[rng.choice(["add", "lift", "lift"]), rng.choice(names), product(**powers)] = rng.choice([1, 1, 1, 2, 5])
     rows = tuple(sorted((word, name, c, one) for (word, name, one), c in found.items()))
     return (tuple(names) if rng.randint(0, 1) else names), rows
+
+
+def sites(thing, path=()):
+    """The paths to the thing and to all things inside it."""
+    found = [path]
+    if isinstance(thing, (tuple, list)):
+        for k, item in enumerate(thing):
+            found.extend(sites(item, path + (k,)))
+    if isinstance(thing, dict):
+        for key in thing:
+            found.extend(sites(thing[key], path + (key,)))
+    return found
+
+
+def at_path(thing, path):
+    for step in path:
+        thing = thing[step]
+    return thing
+
+
+def with_path(thing, path, fresh):
+    if not path:
+        return fresh
+    if isinstance(thing, dict):
+        return {**thing, path[0]: with_path(thing[path[0]], path[1:], fresh)}
+    items = list(thing)
+    items[path[0]] = with_path(items[path[0]], path[1:], fresh)
+    return type(thing)(items)
+
+
+def mutated(rng, thing, extra=()):
+    """The thing with one random change somewhere inside it."""
+    path = rng.choice(sites(thing))
+    one = at_path(thing, path)
+    choices = [at_path(thing, rng.choice(sites(thing))), rng.choice([None, True, 0, 1, "a", "x", "keep", (), [], {}, ("start",), ("begin",)])]
+    choices.extend(extra)
+    if isinstance(one, int):
+        choices.extend([one + 1, one - 1, bool(one), str(one)] * 2)
+    if isinstance(one, tuple):
+        k = rng.randrange(len(one) + 1)
+        choices.extend([list(one), one[:k] + one[k + 1:], one[:k] + one[max(0, k - 1):], one[::-1]] * 2)
+        if one:
+            choices.append(one[rng.randrange(len(one))])
+    if isinstance(one, dict):
+        key = rng.choice([*one, "a", "#", 1])
+        choices.extend([{**one, key: rng.choice([None, ("start",), *one.values()])}, {k: v for k, v in one.items() if k != key}] * 2)
+    return with_path(thing, path, rng.choice(choices))
+
+
+# A second telling of sections 8 and 9.
+
+
+def terms_in(row):
+    return (row[2],) if row[0] == "lift" else row[2]
+
+
+def is_row_of(step, name):
+    return step[0] in ("add", "lift", "set") and step[1] == name
+
+
+def has_ring(rows, name):
+    """Whether there is a ring for the name: a walk over rows, with a flag for a row that does more than hand on."""
+    todo = [(k, False) for k, row in enumerate(rows) if row[1] == name]
+    seen = set(todo)
+    while todo:
+        k, special = todo.pop()
+        word, _, c, one = rows[k]
+        for giver, _ in one:
+            now = special or word == "add" or (c, one) != (1, ((giver, 1),))
+            if giver == name and now:
+                return True
+            for state in [(j, now) for j, row in enumerate(rows) if row[1] == giver]:
+                if state not in seen:
+                    seen.add(state)
+                    todo.append(state)
+    return False
+
+
+def naive_above_names(names, steps, flats):
+    """For each place the set of the names with an above tree there."""
+    places = [set()]
+    for step, rows in zip(steps, flats):
+        ahead = places[-1]
+        behind = {name for name in ahead if step[0] != "set" or step[1] != name}
+        if step[0] != "loop":
+            if any(giver in ahead for _, one in terms_in(step) for giver, _ in one):
+                behind.add(step[1])
+        else:
+            behind |= {name for name in names if has_ring(rows, name)}
+            behind |= {row[1] for row in rows if row[0] == "add" and step[1] in ahead}
+            while True:
+                more = behind | {row[1] for row in rows if any(giver in behind for giver, _ in row[3])}
+                if more == behind:
+                    break
+                behind = more
+        places.append(behind)
+    return places
+
+
+def chosen_products(one, sets):
+    """All products of one product of each name's set, to its power."""
+    found = set()
+    for chosen in itertools.product(*[sorted(sets[name]) for name, _ in one]):
+        found.add(multiplied([(top, power) for top, (_, power) in zip(chosen, one)]))
+    return found
+
+
+def naive_branch_products(names, steps, flats, most):
+    """For each place, for each name without an above tree there, the set of all products of its branches; None if too many."""
+    aboves = naive_above_names(names, steps, flats)
+    places = [{name: {((name, 1),)} for name in names}]
+    for k, (step, rows) in enumerate(zip(steps, flats)):
+        ahead = places[-1]
+        behind = {}
+        if step[0] == "loop":
+            calm = naive_calm(names, rows)
+            trees = naive_loop_products(calm, [row for row in rows if row[1] in calm], most)
+            if trees is None:
+                return None
+            sets = {**ahead, "#": ahead.get(step[1])}
+        for name in names:
+            if name in aboves[k + 1]:
+                continue
+            found = set()
+            if name in ahead and (step[0], step[1]) != ("set", name):
+                found |= ahead[name]
+            if step[0] == "loop":
+                for one in trees[name]:
+                    found |= chosen_products(one, sets)
+                    if len(found) > most:
+                        return None
+            elif step[1] == name:
+                for _, one in terms_in(step):
+                    found |= chosen_products(one, ahead)
+            if len(found) > most:
+                return None
+            behind[name] = found
+        places.append(behind)
+    return places
+
+
+def naive_heights(below, names, steps, flats, most):
+    places = naive_branch_products(names, steps, flats, most)
+    if places is None:
+        return None
+    return {name: naive_lean(below, places[-1][name]) if name in places[-1] else None for name in names}
+
+
+def naive_is_tree(rows, name, thing):
+    """Whether it is a loop tree for the name, by the words of 6.1."""
+    if type(thing) is not tuple or not thing or type(thing[0]) is not str:
+        return False
+    if thing[0] == "begin":
+        return len(thing) == 1
+    if thing[0] != "row" or len(thing) != 3 or type(thing[1]) is not int or thing[1] not in range(len(rows)):
+        return False
+    row = rows[thing[1]]
+    return row[1] == name and type(thing[2]) is tuple and len(thing[2]) == len(row[3]) \
+        and all(naive_is_tree(rows, other, inner) for (other, _), inner in zip(row[3], thing[2]))
+
+
+def told_tree_product(rows, name, tree):
+    """The product of a loop tree by the words of 6.1."""
+    if tree[0] == "begin":
+        return ((name, 1),)
+    word, _, _, one = rows[tree[1]]
+    pairs = [(told_tree_product(rows, other, inner), power) for (other, power), inner in zip(one, tree[2])]
+    return multiplied(pairs + [((("#", 1),), 1)] * (word == "add"))
+
+
+class NoTree(Exception):
+    pass
+
+
+def told_branch_product(steps, flats, place, name, thing):
+    """The product of a branch by the words of 8.1; NoTree for what is none."""
+    if type(thing) is not tuple or not thing or type(thing[0]) is not str:
+        raise NoTree()
+    word, rest = thing[0], thing[1:]
+    if word == "start" and not rest and place == 0:
+        return ((name, 1),)
+    if place == 0:
+        raise NoTree()
+    step, rows = steps[place - 1], flats[place - 1]
+    if word == "keep" and len(rest) == 1 and not (step[0] == "set" and step[1] == name):
+        return told_branch_product(steps, flats, place - 1, name, rest[0])
+    if word == "row" and len(rest) == 2 and step[0] != "loop" and step[1] == name:
+        number, trees = rest
+        if type(number) is not int or number not in range(len(terms_in(step))):
+            raise NoTree()
+        one = terms_in(step)[number][1]
+        if type(trees) is not tuple or len(trees) != len(one):
+            raise NoTree()
+        return multiplied([(told_branch_product(steps, flats, place - 1, other, tree), power)
+                           for (other, power), tree in zip(one, trees)])
+    if word == "loop" and len(rest) == 3 and step[0] == "loop" and naive_is_tree(rows, name, rest[0]):
+        one = told_tree_product(rows, name, rest[0])
+        if type(rest[1]) is not dict or set(rest[1]) != {other for other, _ in one if other != "#"}:
+            raise NoTree()
+        if ("#" in dict(one)) != (rest[2] is not None):
+            raise NoTree()
+        return multiplied([(told_branch_product(steps, flats, place - 1, *((other, rest[1][other]) if other != "#" else (step[1], rest[2]))),
+                            power) for other, power in one])
+    raise NoTree()
+
+
+def is_told_branch(steps, flats, name, thing):
+    try:
+        told_branch_product(steps, flats, len(steps), name, thing)
+        return True
+    except NoTree:
+        return False
+
+
+def steps_and_flats(program, way):
+    steps = straight(program, way)
+    return steps, [flat(program, step) if step[0] == "loop" else None for step in steps]
+
+
+def is_told_above(steps, flats, place, name, thing):
+    """Whether it is an above tree, by the words of 8.2."""
+    if place == 0 or type(thing) is not tuple or not thing or type(thing[0]) is not str:
+        return False
+    step, rows = steps[place - 1], flats[place - 1]
+    word, rest = thing[0], thing[1:]
+    if word == "keep" and len(rest) == 1:
+        return not (step[0] == "set" and step[1] == name) and is_told_above(steps, flats, place - 1, name, rest[0])
+    if word == "row" and len(rest) == 3 and step[0] != "loop" and step[1] == name:
+        number, giver, tree = rest
+        return type(number) is int and number in range(len(terms_in(step))) and type(giver) is str \
+            and giver in dict(terms_in(step)[number][1]) and is_told_above(steps, flats, place - 1, giver, tree)
+    return word == "loop" and len(rest) == 1 and step[0] == "loop" and is_told_loop_above(steps, flats, place - 1, name, rest[0])
+
+
+def is_told_loop_above(steps, flats, place, name, thing):
+    rows = flats[place]
+    if type(thing) is not tuple or not thing or type(thing[0]) is not str:
+        return False
+    word, rest = thing[0], thing[1:]
+    if word == "before" and len(rest) == 1:
+        return is_told_above(steps, flats, place, name, rest[0])
+    if word == "ring" and len(rest) == 1:
+        numbers = rest[0]
+        if type(numbers) is not tuple or not numbers or not all(type(k) is int and k in range(len(rows)) for k in numbers):
+            return False
+        following = numbers[1:] + numbers[:1]
+        return rows[numbers[0]][1] == name and all(rows[j][1] in dict(rows[k][3]) for k, j in zip(numbers, following)) \
+            and any(rows[k][0] == "add" or rows[k][2] != 1 or rows[k][3] != ((rows[j][1], 1),) for k, j in zip(numbers, following))
+    if word not in ("hand", "count") or not rest or type(rest[0]) is not int or rest[0] not in range(len(rows)) or rows[rest[0]][1] != name:
+        return False
+    if word == "count":
+        return len(rest) == 2 and rows[rest[0]][0] == "add" and is_told_above(steps, flats, place, steps[place][1], rest[1])
+    return len(rest) == 3 and type(rest[1]) is str and rest[1] in dict(rows[rest[0]][3]) \
+        and is_told_loop_above(steps, flats, place, rest[1], rest[2])
+
+
+def depth_of(thing):
+    """How deep tuples, lists and dicts stand in one another."""
+    inner = thing.values() if isinstance(thing, dict) else thing if isinstance(thing, (tuple, list)) else None
+    return 0 if inner is None else 1 + max([0] + [depth_of(item) for item in inner])

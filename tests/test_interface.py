@@ -17,6 +17,11 @@ FUNCTIONS = {
     "looppapers": {"loop_paper": "names flat", "is_loop_paper": "names flat thing"},
     "looptrees": {"is_loop_tree": "names flat name thing", "loop_product": "names flat name tree", "loop_heights": "names flat"},
     "hulls": {"below": "product products", "weights": "product products", "direction": "product products", "lean": "products"},
+    "branches": {"branch": "program way name product", "is_branch": "program way name thing", "branch_product": "program way name tree"},
+    "abovetrees": {"above": "program way name", "is_above": "program way name thing"},
+    "heights": {"height": "program way name", "top": "program name", "heights": "program way", "tops": "program",
+                "degree": "program way name"},
+    "stairs": {"stairs": "program way", "is_stairs": "program way thing"},
     "frontiers": {"frontier": "program starts", "choices_to": "program starts numbers", "greatest": "program starts name"},
 }
 METHODS = {

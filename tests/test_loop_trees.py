@@ -5,7 +5,8 @@ import itertools
 import random
 import unittest
 
-from helper import (multiplied, naive_calm, naive_lean, naive_loop_products, odd_things, product, program_p, replaced, some_flat)
+from helper import (naive_calm, naive_is_tree, naive_lean, naive_loop_products, odd_things, product, program_p, replaced, some_flat,
+                    told_tree_product)
 from howhigh.flats import flat
 from howhigh.hulls import below
 from howhigh.looppapers import loop_paper
@@ -24,27 +25,6 @@ def some_tree(rng, rows, name, deep):
         return BEGIN
     number = rng.choice(numbers)
     return ("row", number, tuple(some_tree(rng, rows, other, deep - 1) for other, _ in rows[number][3]))
-
-
-def told_product(rows, name, tree):
-    """The product of a tree by the words of 6.1."""
-    if tree == BEGIN:
-        return ((name, 1),)
-    word, _, _, one = rows[tree[1]]
-    pairs = [(told_product(rows, other, inner), power) for (other, power), inner in zip(one, tree[2])]
-    return multiplied(pairs + [((("#", 1),), 1)] * (word == "add"))
-
-
-def naive_is_tree(rows, name, thing):
-    if type(thing) is not tuple or not thing or type(thing[0]) is not str:
-        return False
-    if thing == BEGIN:
-        return True
-    if thing[0] != "row" or len(thing) != 3 or type(thing[1]) is not int or thing[1] not in range(len(rows)):
-        return False
-    row = rows[thing[1]]
-    return row[1] == name and type(thing[2]) is tuple and len(thing[2]) == len(row[3]) \
-        and all(naive_is_tree(rows, other, inner) for (other, _), inner in zip(row[3], thing[2]))
 
 
 class TreesTest(unittest.TestCase):
@@ -113,7 +93,7 @@ class TreesTest(unittest.TestCase):
             name = rng.choice(names)
             tree = some_tree(rng, rows, name, 4)
             self.assertIs(is_loop_tree(names, rows, name, tree), True)
-            self.assertEqual(loop_product(names, rows, name, tree), told_product(rows, name, tree))
+            self.assertEqual(loop_product(names, rows, name, tree), told_tree_product(rows, name, tree))
             other = rng.choice(names)
             found = is_loop_tree(names, rows, other, tree)
             self.assertIs(found, naive_is_tree(rows, other, tree))

@@ -74,6 +74,6 @@ def _doubles(part, flat):
 def calm_parts(names, flat):
     """The list of the parts that neither double nor are given from parts that double, in the order of parts."""
     behind = givers(names, flat)
+    # The names of a part that doubles are givers of one another, and of themselves.
     wild = [name for part in doubling(names, flat) for name in part]
-    return [part for part in parts(names, flat)
-            if part[0] not in wild and not any([giver in wild for giver in behind[part[0]]])]
+    return [part for part in parts(names, flat) if not any([giver in wild for giver in behind[part[0]]])]

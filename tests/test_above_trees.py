@@ -71,6 +71,15 @@ class IsAboveTest(unittest.TestCase):
         self.assertFalse(self.judged(program, "x", ("row", 1, "x", RING)))
         self.assertTrue(self.judged(made(doubled(), lift("y", 2, x=1)), "y", ("row", 0, "x", RING)))
 
+    def test_rows_and_loops_stand_for_steps_of_their_kind(self):
+        program = made(doubled(), add("x", term(1, x=1)))
+        self.assertTrue(self.judged(program, "x", ("row", 0, "x", RING)))
+        self.assertFalse(self.judged(program, "x", ("loop", ("before", RING))))
+        self.assertFalse(self.judged(program, "x", RING))
+        program = made(doubled(), loop("x", add("x", term(1, x=1))))
+        self.assertFalse(self.judged(program, "x", ("row", 0, "x", RING)))
+        self.assertFalse(self.judged(program, "x", ("row", 1, "x", RING)))
+
     def test_hand_before_and_count(self):
         program = made(doubled(), loop("x", add("y", term(1, b=1)), lift("b", 1, a=1), lift("a", 2, x=1), lift("x", 1, y=1)))
         # 0 adds b to y, 1 lifts a to 2 x, 2 b to a, 3 x to y; all are in one part.

@@ -81,6 +81,14 @@ class IsBranchTest(unittest.TestCase):
         self.assertFalse(self.judged(program, "y", ("loop", ("row", 1, ()), {1: START}, START)))
         self.assertTrue(self.judged(program, "b", ("loop", ("row", 2, (tree,)), {"a": START}, START)))
 
+    def test_rows_and_loops_stand_for_steps_of_their_kind(self):
+        row, rounds = made(add("x", term(1, x=1))), made(loop("x", add("x", term(1, a=1))))
+        for thing in [("loop", BEGIN, {"x": START}, None), ("loop", ("row", 0, (BEGIN,)), {"x": START}, None), ("loop", ("row", 0, ()), {}, None)]:
+            self.assertFalse(self.judged(row, "x", thing))
+        for thing in [("row", 0, (START,)), ("row", 0, ()), ("row", 0, (START, START)), ("row", 1, ())]:
+            self.assertFalse(self.judged(rounds, "x", thing))
+            self.assertFalse(self.judged(rounds, "a", thing))
+
     def test_branches_of_names_that_are_above(self):
         program = made(loop("a", add("x", term(1, x=1))), add("y", term(1, x=1)))
         tree = BEGIN
@@ -156,6 +164,19 @@ class BranchTest(unittest.TestCase):
                 found = branch(program, (), name, one)
                 self.assertTrue(is_branch(program, (), name, found))
                 self.assertEqual(branch_product(program, (), name, found), one)
+
+    def test_rings_that_only_hand_on_share_their_products(self):
+        for rows, products in [((add("y", term(2, b=1)), lift("x", 1, y=1), lift("y", 1, x=1)), [product(a=1, b=1), X, Y]),
+                               ((lift("x", 5, b=2), lift("x", 1, y=1), lift("y", 1, x=1), lift("x", 1, a=1)), [A, product(b=2), X, Y]),
+                               ((add("y"), lift("x", 1, y=1), lift("y", 1, b=1), lift("b", 1, x=1), add("b", term(1, a=2))), [product(a=3), B, X, Y])]:
+            program = made(loop("a", *rows))
+            for name in "xy":
+                self.assertEqual(heights(program, ())[name], tuple(products))
+                for one in products:
+                    found = branch(program, (), name, one)
+                    self.assertTrue(is_told_branch(*steps_and_flats(program, ()), name, found), found)
+                    self.assertTrue(is_branch(program, (), name, found))
+                    self.assertEqual(branch_product(program, (), name, found), one)
 
     def test_no_branch(self):
         p = program_p()

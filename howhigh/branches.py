@@ -1,9 +1,7 @@
 """Branches: how products of the starts are reached by a way (8.1 and 8.3)."""
 
-from howhigh.climbs import climb
-from howhigh.errors import NoBranch
+from howhigh.climbs import climb_to
 from howhigh.flats import flat
-from howhigh.forms import is_product
 from howhigh.kinds import is_made, is_number_of
 from howhigh.looptrees import is_loop_tree, loop_product
 from howhigh.names import check_name
@@ -14,12 +12,7 @@ from howhigh.ways import check_way, straight
 
 def branch(program, way, name, product):
     """A branch for the name at the end of the way, its product this one of the height."""
-    check_way(program, way)
-    check_name(program, name)
-    places = climb(program, way)
-    last = places[-1][name]
-    if last is None or not is_product(program.names, product) or product not in last:
-        raise NoBranch()
+    places = climb_to(program, way, name, product)
     return Grower(straight(program, way), places).grown(len(places) - 1, name, product)
 
 

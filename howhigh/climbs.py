@@ -6,19 +6,39 @@ its names, in order, or ("loop", tree, product, chosen) with a loop tree and its
 its names and for "#".
 """
 
-from howhigh.flats import flat
+from howhigh.errors import NoBranch
+from howhigh.flats import flat_rows
+from howhigh.forms import is_product
 from howhigh.loopclimbs import loop_climb
+from howhigh.names import check_name
 from howhigh.putting import lean_only, one_of_each
 from howhigh.statements import terms_of
-from howhigh.ways import straight
+from howhigh.ways import check_way, steps_of
 
 
 def climb(program, way):
     """The list of the dicts for each place of the way, from each name to None, if it is above, or to its dict."""
-    places = [{name: {((name, 1),): ("start",)} for name in program.names}]
-    for step in straight(program, way):
+    check_way(program, way)
+    return climbed(program.names, steps_of(program.whole, {}, way))
+
+
+def climb_to(program, way, name, product):
+    """The same list, where the height of the name must have the product."""
+    check_way(program, way)
+    check_name(program, name)
+    places = climb(program, way)
+    last = places[-1][name]
+    if last is None or not is_product(program.names, product) or product not in last:
+        raise NoBranch()
+    return places
+
+
+def climbed(names, steps):
+    """The list of the dicts for each place of these steps of a block that is written out."""
+    places = [{name: {((name, 1),): ("start",)} for name in names}]
+    for step in steps:
         if step[0] == "loop":
-            places.append(_behind_loop(step[1], flat(program, step), places[-1]))
+            places.append(_behind_loop(step[1], flat_rows(step[2]), places[-1]))
         else:
             places.append(_behind_row(step, places[-1]))
     return places

@@ -1,26 +1,37 @@
 """The search for a direction in which a vector weighs more than others, in integers (7.1 and 7.2).
 
-A direction y is sought, each y[n] from 0 on, in which none of the vectors has a weight above 1 and another one
-has as much as possible. It moves from corner to corner of these directions (the simplex method). Where the other
+A direction y is sought, each y[n] from 0 on, in which none of the vectors has a weight above its bound and another
+one has as much as possible. It moves from corner to corner of these directions (the simplex method). Where the other
 one gets no weight above 1, the slopes at the best corner are weights of the vectors that show it.
 """
 
+from math import gcd
+
+
+def shortened(numbers):
+    """Integers from 0 on, not all 0, divided by all that divides each of them."""
+    shared = 0
+    for number in numbers:
+        shared = gcd(shared, number)
+    return [number // shared for number in numbers]
+
 
 class Corner:
-    """A corner of the directions in which none of these vectors of integers from 0 on has a weight above 1.
+    """A corner of the directions in which none of these vectors of integers has a weight above its bound, from 0 on.
 
-    For each of their places some vector has more than 0 there. The variables are numbered: first the places of a
-    direction, then for each vector what its weight leaves of 1. Those that are free are 0 at the corner. Each bound
-    one has a row: its number at the corner, then how much it falls by each of the free ones, all times the scale
-    (that of the last pivot, so that all stay integers, as Edmonds found).
+    For each of their places some vector that has nothing below 0 has more than 0 there, so that no weight can rise for
+    ever. The variables are numbered: first the places of a direction, then for each vector what its weight leaves of
+    its bound. Those that are free are 0 at the corner. Each other one has a row: its number at the corner, then how
+    much it falls by each of the free ones, all times the scale (that of the last pivot, so that all stay integers, as
+    Edmonds found).
     """
 
-    def __init__(self, vectors):
+    def __init__(self, vectors, bounds):
         self._places = len(vectors[0])
         self._scale = 1
         self._free = list(range(self._places))
         self._bound = [self._places + k for k in range(len(vectors))]
-        self._rows = [[1, *vector] for vector in vectors]
+        self._rows = [[bound, *vector] for bound, vector in zip(bounds, vectors)]
         self._aim = []
 
     def can_raise(self, vector):

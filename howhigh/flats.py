@@ -7,34 +7,41 @@ from howhigh.sums import product_of
 
 def flat(program, loop):
     """The strictly ascending tuple of the flat rows of a loop that is a step of a way of the program."""
+    return flat_rows(whole_of(loop[2], program.bodies))
+
+
+def flat_rows(block):
+    """The strictly ascending tuple of the flat rows of a loop with this block, which is written out."""
     found = {}
-    _gather(whole_of(loop[2], program.bodies), (), found)
+    for word, name, coefficient, product, _ in flat_terms(block, ()):
+        known = found.get((word, name, product), 0)
+        found[word, name, product] = known + coefficient if word == "add" else max(known, coefficient)
     return tuple(sorted([(word, name, found[word, name, product], product) for word, name, product in found]))
 
 
-def _gather(block, rounds, found):
-    """Put the coefficients of the flat rows of a block that is written out into the dict found.
+def flat_terms(block, loops):
+    """What the terms of the add and lift rows of a block that is written out give, the block inside these loops.
 
-    rounds is the product of the names of the loops around it.
+    It is a list of tuples of what is in a flat row, and of the tuple of the loops around the row.
     """
+    found = []
     for statement in block:
         if statement[0] in ("add", "lift"):
-            _gather_row(statement, rounds, found)
-        inside = product_of(rounds, ((statement[1], 1),)) if statement[0] == "loop" else rounds
+            found.extend(_terms_of_row(statement, loops))
+        inside = (*loops, statement) if statement[0] == "loop" else loops
         for inner in blocks_in(statement):
-            _gather(inner, inside, found)
+            found.extend(flat_terms(inner, inside))
+    return found
 
 
-def _gather_row(row, rounds, found):
-    """Put the coefficients of the flat rows of an add or lift row into the dict found."""
+def _terms_of_row(row, loops):
+    """What the terms of an add or lift row inside these loops give."""
     word, name, _ = row
-    for coefficient, product in terms_of(row):
-        if word == "add":
-            key = (word, name, product_of(product, rounds))
-            found[key] = found.get(key, 0) + coefficient
-        else:
-            key = (word, name, product)
-            found[key] = max(found.get(key, 0), coefficient)
+    rounds = ()
+    if word == "add":
+        for loop in loops:
+            rounds = product_of(rounds, ((loop[1], 1),))
+    return [(word, name, coefficient, product_of(product, rounds), loops) for coefficient, product in terms_of(row)]
 
 
 def parts(names, flat):

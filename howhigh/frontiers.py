@@ -7,7 +7,7 @@ the pair of the last choice and how the tuple ahead of it was reached.
 """
 
 from howhigh.errors import NotTop
-from howhigh.kinds import is_integer
+from howhigh.kinds import are_integers
 from howhigh.names import check_name
 from howhigh.starts import check_starts
 from howhigh.statements import CHOICE_WORDS, choices_at, chosen_blocks
@@ -22,9 +22,7 @@ def frontier(program, starts):
 def choices_to(program, starts, numbers):
     """The list of the choices of a run that ends with these numbers of the frontier."""
     tops = _tops(program, starts)
-    if not isinstance(numbers, tuple) or not all([is_integer(number) for number in numbers]):
-        raise NotTop()
-    if numbers not in tops:
+    if not are_integers(numbers) or numbers not in tops:
         raise NotTop()
     choices = []
     reached = tops[numbers]

@@ -1,8 +1,6 @@
 """Products compared (section 7); the sign "#" counts as a name."""
 
-from math import gcd
-
-from howhigh.corners import Corner
+from howhigh.corners import Corner, shortened
 
 
 def below(product, products):
@@ -17,10 +15,10 @@ def weights(product, products):
     if _missing(product, products) is not None:
         return None
     names = [name for name, _ in product]
-    corner = Corner([_vector(other, names) for other in products])
+    corner = _corner([_vector(other, names) for other in products])
     if corner.can_raise(_vector(product, names)):
         return None
-    return tuple(_shortened(corner.slopes(len(products))))
+    return tuple(shortened(corner.slopes(len(products))))
 
 
 def direction(product, products):
@@ -33,10 +31,10 @@ def direction(product, products):
     if not product:
         return None
     names = [name for name, _ in product]
-    corner = Corner([_vector(other, names) for other in products])
+    corner = _corner([_vector(other, names) for other in products])
     if not corner.can_raise(_vector(product, names)):
         return None
-    for name, number in zip(names, _shortened(corner.direction())):
+    for name, number in zip(names, shortened(corner.direction())):
         found[name] = number
     return found
 
@@ -71,12 +69,9 @@ def _missing(product, products):
     return None
 
 
-def _shortened(numbers):
-    """Integers from 0 on, not all 0, divided by all that divides each of them."""
-    shared = 0
-    for number in numbers:
-        shared = gcd(shared, number)
-    return [number // shared for number in numbers]
+def _corner(vectors):
+    """A corner of the directions in which none of the vectors has a weight above 1."""
+    return Corner(vectors, [1 for _ in vectors])
 
 
 def _outermost(vectors):
@@ -88,11 +83,11 @@ def _outermost(vectors):
     places = len(vectors[0])
     for place in range(places):
         found[_heaviest(vectors, [int(k == place) for k in range(places)])] = True
-    corner = Corner(list(found))
+    corner = _corner(list(found))
     for vector in vectors:
         while vector not in found and corner.can_raise(vector):
             found[_heaviest(vectors, corner.direction())] = True
-            corner = Corner(list(found))
+            corner = _corner(list(found))
     return list(found)
 
 

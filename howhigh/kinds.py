@@ -8,6 +8,11 @@ def is_integer(thing):
     return isinstance(thing, int) and not isinstance(thing, bool)
 
 
+def are_integers(thing):
+    """Whether they are a tuple of integers."""
+    return isinstance(thing, tuple) and all([is_integer(number) for number in thing])
+
+
 def is_name(thing):
     """Whether it is a string of 1 to 8 letters from a to z."""
     if not isinstance(thing, str) or not 1 <= len(thing) <= LONGEST_NAME:

@@ -1,7 +1,7 @@
 """The ways of a program and the steps of a way (2.4)."""
 
 from howhigh.errors import BadWay
-from howhigh.kinds import is_integer
+from howhigh.kinds import are_integers
 from howhigh.statements import CHOICE_WORDS, choices_at, chosen_blocks
 
 
@@ -36,19 +36,21 @@ def _choice_ways(statement):
 
 def check_way(program, way):
     """Raise BadWay for what is no way of the program."""
-    if not isinstance(way, tuple) or not all([is_integer(number) for number in way]):
-        raise BadWay()
-    if way not in ways(program):
+    if not are_integers(way) or way not in ways(program):
         raise BadWay()
 
 
 def straight(program, way):
     """The tuple of the rows and loops that main does by this way outside loops, loops as they stand."""
     check_way(program, way)
-    bodies = program.bodies
+    return steps_of(program.main, program.bodies, way)
+
+
+def steps_of(block, bodies, way):
+    """The tuple of the rows and loops that a block that calls these bodies does by a way of it outside loops."""
     done = []
     choices = list(way[::-1])
-    todo = list(program.main[::-1])
+    todo = list(block[::-1])
     while todo:
         statement = todo.pop()
         if statement[0] == "call":

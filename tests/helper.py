@@ -2,6 +2,7 @@
 
 import itertools
 import random
+import re
 
 from howhigh.errors import BadProgram, HighError, NoName, TooLong
 from howhigh.flats import flat
@@ -304,6 +305,41 @@ class WayRun(NaiveRun):
             raise TooLong()
 
 
+class NaiveFullRun(NaiveRun):
+    """The full run of a way; TooLong where it has more than most steps, or comes to a number above 10 ** 3000."""
+
+    def __init__(self, program, way, starts, most):
+        self.way = list(way)
+        self.most = most
+        super().__init__(program, starts, None)
+
+    def do(self, block):
+        for statement in block:
+            if statement[0] == "loop":
+                turns, around = sorted(naive_ways(statement[2])), self.way
+                for number in range(self.numbers[statement[1]]):
+                    self.step()
+                    self.way = list(turns[number % len(turns)])
+                    self.do(statement[2])
+                self.way = around
+            elif statement[0] == "either":
+                self.do(statement[1][self.way.pop(0)])
+            elif statement[0] == "orders":
+                every = sorted(itertools.permutations(range(len(statement[1]))))
+                for number in every[self.way.pop(0)]:
+                    self.do(statement[1][number])
+            else:
+                self.step()
+                self.do_row(*statement)
+                if self.numbers[statement[1]] > 10 ** 3000:
+                    raise TooLong()
+
+    def step(self):
+        self.steps += 1
+        if self.steps > self.most:
+            raise TooLong()
+
+
 def some_product(rng, names):
     powers = {}
     for _ in range(rng.choice([0, 1, 1, 1, 2, 3])):
@@ -381,6 +417,38 @@ def loopy_programs(seed, many):
                 main.append(("either", (block, (("loop", rng.choice(names), block[:1]),))))
         if naive_wrong_part(names, {}, tuple(main)) is None:
             found.append(Program(names, {}, tuple(main)))
+    return found
+
+
+def rowy_programs(seed, many, most_rows):
+    """So many right programs, always the same ones, of few names, with up to so many rows and either among them."""
+    rng = random.Random(seed)
+    found = []
+    while len(found) < many:
+        names = ("a", "b", "x")[:rng.randint(2, 3)]
+        words = ["do"] * (rng.random() < 0.3)
+        bodies = {word: some_block(rng, names, [], False, 1, 2) for word in words}
+        main = some_block(rng, names, words, True, 3, 5)
+        if naive_wrong_part(names, bodies, main) is None and 2 <= naive_rows(main, bodies) <= most_rows:
+            found.append(Program(names, bodies, main))
+    return found
+
+
+def naive_rows(main, bodies):
+    """How many add and lift rows stand in main and the bodies."""
+    return sum(statement[0] in ("add", "lift") for block in [main, *bodies.values()] for statement in all_statements(block))
+
+
+def turning_programs(seed, many):
+    """So many right programs, always the same ones, with loops in which loops, either and orders stand."""
+    rng = random.Random(seed)
+    found = []
+    while len(found) < many:
+        names = ("a", "b", "x", "y")[:rng.randint(2, 4)]
+        main = tuple(("loop", rng.choice(names), some_block(rng, names, [], False, 2, 4)) if rng.random() < 0.8
+                     else some_row(rng, names, True) for _ in range(rng.randint(1, 3)))
+        if naive_wrong_part(names, {}, main) is None:
+            found.append(Program(names, {}, main))
     return found
 
 
@@ -862,3 +930,119 @@ def depth_of(thing):
     """How deep tuples, lists and dicts stand in one another."""
     inner = thing.values() if isinstance(thing, dict) else thing if isinstance(thing, (tuple, list)) else None
     return 0 if inner is None else 1 + max([0] + [depth_of(item) for item in inner])
+
+
+# A second telling of section 15.
+
+
+NAME_FORM = "[a-z]{1,8}"
+MORE_FORM = "(?:[2-9]|[1-9][0-9]{1,8})"
+FACTORS_FORM = rf"{NAME_FORM}(?:\^{MORE_FORM})?(?:\*{NAME_FORM}(?:\^{MORE_FORM})?)*"
+
+
+def told_product(text):
+    """The product with this text, None if there is none."""
+    if text == "1":
+        return ()
+    if not re.fullmatch(FACTORS_FORM, text):
+        return None
+    pairs = [factor.split("^") for factor in text.split("*")]
+    found = tuple((pair[0], int(pair[1]) if pair[1:] else 1) for pair in pairs)
+    return found if sorted({name for name, _ in found}) == [name for name, _ in found] else None
+
+
+def told_term(text):
+    found = re.fullmatch(rf"({MORE_FORM})(?:\*({FACTORS_FORM}))?", text)
+    if found is None:
+        one = told_product(text)
+        return None if one is None else (1, one)
+    one = () if found[2] is None else told_product(found[2])
+    return None if one is None else (int(found[1]), one)
+
+
+def told_sum(text):
+    terms = [told_term(part) for part in text.split("+")]
+    if None in terms or sorted({one for _, one in terms}) != [one for _, one in terms]:
+        return None
+    return tuple(terms)
+
+
+class WrongLine(Exception):
+    pass
+
+
+def told_parts(text):
+    """The names, bodies and main of the program with this text; WrongLine with the number of the first wrong line."""
+    *lines, rest = text.split("\n")
+    at = 0
+
+    def need(holds):
+        if not holds:
+            raise WrongLine(at + 1)
+
+    def taken():
+        nonlocal at
+        need(at < len(lines))
+        words = lines[at].split(" ")
+        need(all(words))
+        return words
+
+    def block(deep, ends):
+        """The statements up to a line of one of the ends, and this end; deep blocks stand around, this one among them."""
+        nonlocal at
+        out = []
+        while True:
+            words = taken()
+            if len(words) == 1 and words[0] in ends:
+                at += 1
+                return tuple(out), words[0]
+            kind = words[0]
+            if kind in ("add", "set", "lift"):
+                need(len(words) == 3 and re.fullmatch(NAME_FORM, words[1]))
+                content = told_term(words[2]) if kind == "lift" else told_sum(words[2])
+                need(content is not None)
+                at += 1
+                out.append((kind, words[1], content))
+            elif kind == "call":
+                need(len(words) == 2 and re.fullmatch(NAME_FORM, words[1]))
+                at += 1
+                out.append((kind, words[1]))
+            elif kind == "loop":
+                need(len(words) == 2 and re.fullmatch(NAME_FORM, words[1]) and deep < 30)
+                at += 1
+                out.append((kind, words[1], block(deep + 1, ["done"])[0]))
+            else:
+                need(kind in ("either", "orders") and len(words) == 1 and deep < 30)
+                at += 1
+                between = {"either": "or", "orders": "also"}[kind]
+                blocks, end = [block(deep + 1, [between])[0]], between
+                while end == between:
+                    inner, end = block(deep + 1, [between, "done"])
+                    blocks.append(inner)
+                out.append((kind, tuple(blocks)))
+
+    words = taken()
+    need(words[0] == "names" and words[1:] and all(re.fullmatch(NAME_FORM, word) for word in words[1:]) and sorted(set(words[1:])) == words[1:])
+    at += 1
+    names, bodies = tuple(words[1:]), {}
+    while True:
+        words = taken()
+        if words == ["main"]:
+            break
+        need(len(words) == 2 and words[0] == "body" and re.fullmatch(NAME_FORM, words[1]) and all(word < words[1] for word in bodies))
+        at += 1
+        bodies[words[1]] = block(1, ["done"])[0]
+    at += 1
+    main, _ = block(1, ["done"])
+    need(at == len(lines) and not rest)
+    return names, bodies, main
+
+
+def told_error(text):
+    """What read_program raises for the string text, as caught tells it, by the words of 15.3 and a second telling of 2.2."""
+    try:
+        parts = told_parts(text)
+    except WrongLine as error:
+        return ("BadText", error.args[0])
+    part = naive_wrong_part(*parts)
+    return part and ("BadProgram", part)

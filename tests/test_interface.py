@@ -22,12 +22,20 @@ FUNCTIONS = {
     "heights": {"height": "program way name", "top": "program name", "heights": "program way", "tops": "program",
                 "degree": "program way name"},
     "stairs": {"stairs": "program way", "is_stairs": "program way thing"},
+    "shares": {"share": "program way name product"},
+    "covers": {"covered": "one other names", "covering": "one other names", "is_covering": "one other names thing", "outrun": "one other names"},
+    "steps": {"steps_height": "program way"},
+    "cuts": {"cuts": "program name products"},
+    "changes": {"loosened": "program", "behind": "one other", "renamed": "program names", "after": "first second"},
+    "texts": {"product_text": "product", "sum_text": "terms", "height_text": "height", "program_text": "program"},
+    "reading": {"read_program": "text", "read_product": "text"},
     "frontiers": {"frontier": "program starts", "choices_to": "program starts numbers", "greatest": "program starts name"},
 }
 METHODS = {
     ("programs", "Program"): {"__init__": "self names bodies main", "__eq__": "self other"},
     ("runs", "Run"): {"__init__": "self program starts", "choose": "self number", "chosen": "self", "back": "self", "copy": "self",
                       "trying": "self action"},
+    ("desk", "Desk"): {"__init__": "self", "tell": "self line", "undoable": "self", "would": "self line"},
 }
 
 

@@ -111,7 +111,7 @@ class Rivals:
                                for key in inner})
 
     def _narrowest(self, way, claims, heading):
-        """The way of other that leaves the fewest cases open, of those that cover in this direction.
+        """The way of other that leaves the fewest cases to close, of those that cover in this direction.
 
         With it there is a dict from the pairs of its cases to how the claims of these are settled.
         """

@@ -76,9 +76,9 @@ def starts_in(text):
     found = {}
     last = ""
     for part in text.split(","):
-        name, sign, digits = part.partition(":")
+        name, _, digits = part.partition(":")
         number = number_in(digits)
-        if not is_name(name) or not sign or number is None or name <= last:
+        if not is_name(name) or number is None or name <= last:
             return None
         found[name] = number
         last = name

@@ -22,7 +22,7 @@ def product_in(text):
 def _product_of(factors):
     """The product, not (), of which these are the texts of the pairs."""
     pairs = [_pair_in(factor) for factor in factors]
-    if not pairs or None in pairs or not ascending([name for name, _ in pairs]):
+    if None in pairs or not ascending([name for name, _ in pairs]):
         return None
     return tuple(pairs)
 

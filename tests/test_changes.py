@@ -278,7 +278,7 @@ class RenamedTest(unittest.TestCase):
                 if not (type(odd) is str and odd in ("a", "b", "zz", "add", "loop") and odd not in {**right, name: ""}.values()):
                     self.assertEqual(caught(renamed, r, {**right, name: odd}), ("BadNames",), odd)
         for wrong in [{"a": "x", "b": "a"}, {**right, "y": "y"}, {"a": "x", "b": "a", "y": "b"}, {**right, "x": "a"}, {1: "x", "b": "a", "x": "b"},
-                      {"a": "x", "b": "a", None: "b"}, {}, [("a", "x"), ("b", "a"), ("x", "b")], {**right, "x": ("b",)}, {**right, "x": ["b"]}]:
+                      {"a": "x", "b": "a", None: "b"}, {}, [("a", "x"), ("b", "a"), ("x", "b")], {**right, "y": "a"}, {**right, "x": ("b",)}, {**right, "x": ["b"]}]:
             self.assertEqual(caught(renamed, r, wrong), ("BadNames",), wrong)
 
     def test_nothing_is_changed(self):

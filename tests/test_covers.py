@@ -289,6 +289,8 @@ class IsCoveringTest(unittest.TestCase):
         self.assertFalse(self.judged(one, other, ("x",), {(0,): cover[1,], (1,): cover[0,]}))
         self.assertFalse(self.judged(one, other, ("x",), {(False,): cover[0,], (1,): cover[1,]}))
         self.assertFalse(self.judged(one, other, ("x",), {0: cover[0,], 1: cover[1,]}))
+        self.assertFalse(self.judged(one, other, ("x",), {(0,): cover[0,], (5,): cover[1,]}))
+        self.assertFalse(self.judged(one, other, ("x",), {(0,): cover[0,], (1, 0): cover[1,]}))
         self.assertFalse(self.judged(one, other, ("x",), {}))
 
     def test_pairs_left_out_put_in_and_with_flags(self):
@@ -298,7 +300,8 @@ class IsCoveringTest(unittest.TestCase):
         cases = cover[()][2]
         for wrong in [{("x", X): cases["x", X]}, {**cases, ("x", B): cases["x", X]}, {**cases, ("a", A): ("none", (1,))},
                       {("x", X): cases["x", A], ("x", A): cases["x", X]}, {("x", (("x", True),)): cases["x", X], ("x", A): cases["x", A]},
-                      {X: cases["x", X], A: cases["x", A]}, {None: cases["x", X], ("x", A): cases["x", A]}, {}]:
+                      {X: cases["x", X], A: cases["x", A]}, {None: cases["x", X], ("x", A): cases["x", A]}, {}, {("x",): cases["x", X], ("x", A): cases["x", A]},
+                      {("x", X, 1): cases["x", X], ("x", A): cases["x", A]}, {(): cases["x", X], ("x", A): cases["x", A]}, {("x", ("x", 1)): cases["x", X], ("x", A): cases["x", A]}]:
             self.assertFalse(self.judged(one, one, ("x",), {(): ("way", (), wrong)}), wrong)
 
     def test_a_way_may_come_again(self):

@@ -142,6 +142,8 @@ class ErrorsTest(unittest.TestCase):
             self.assertEqual(caught(cuts, p, "x", (X, odd) if odd not in ((), X) else None), ("BadProducts",), odd)
         self.assertIsNone(caught(cuts, p, "x", (product(a=99, b=99, x=99),)))
         self.assertIsNone(caught(cuts, p, "x", (X,) * 6))
+        self.assertEqual(caught(cuts, p, "x", (X,) * 7), ("BadProducts",))
+        self.assertEqual(caught(cuts, p, "x", (A, B, X, (), product(a=2), product(b=2), product(x=2))), ("BadProducts",))
 
     def test_too_many(self):
         eight = [add("x") for _ in range(8)]

@@ -71,6 +71,13 @@ class ShareTest(unittest.TestCase):
         program = made(add("x", term(2, a=1, b=1)), become("b", term(1), term(3, x=2)), lift("y", 4, b=2), become("x", term(1, a=1)))
         self.assertGreater(self.is_held(program, (), shares_of(program, ())), 10)
 
+    def test_names_that_nothing_raises_and_names_lifted_or_set_by_constants(self):
+        self.assertEqual(share(program_p(), (), "a", A), (1, 1))
+        program = made(lift("x", 9), become("y", term(9), term(1, a=1)), add("b"))
+        told = shares_of(program, ())
+        self.assertEqual(sorted(told), [("a", A), ("b", B), ("x", X), ("y", A)])
+        self.assertGreater(self.is_held(program, (), told), 4)
+
     def test_a_loop_that_never_comes_to_a_block_with_less_rounds(self):
         program = made(loop("a", either((add("x"),), (), (add("y", term(1, b=1)),))))
         told = shares_of(program, ())

@@ -76,6 +76,7 @@ class Trial:
         return gone
 
     def _is_low(self, gone):
+        """The same, found out by all ways."""
         left = without_rows(self._program, gone)
         for way in ways(left):
             found = height(left, way, self._name)

@@ -92,6 +92,29 @@ class ShareTest(unittest.TestCase):
         self.assertIn(("y", product(a=3)), told)
         self.assertGreater(self.is_held(program, (), told), 10)
 
+    def test_what_takes_several_rounds_of_an_inner_loop(self):
+        program = made(loop("a", loop("a", lift("x", 1, y=1), lift("y", 1, b=1))))
+        self.assertGreaterEqual(share(program, (), "x", B)[1], 2)
+        self.assertGreater(self.is_held(program, (), shares_of(program, ())), 10)
+
+    def test_a_lift_that_is_surely_done_in_a_later_round_only(self):
+        row = lift("x", 1, b=1)
+        program = made(loop("a", either((loop("y", either((), (row,))),), (row,))))
+        self.assertGreaterEqual(share(program, (), "x", B)[1], 2)
+        self.assertGreater(self.is_held(program, (), shares_of(program, ())), 10)
+        program = made(loop("a", either((), (row,)), loop("y", either((), (), (row,)))))
+        self.assertGreaterEqual(share(program, (), "x", B)[1], 2)
+        self.assertGreater(self.is_held(program, (), shares_of(program, ())), 10)
+
+        program = made(loop("y", either((row, lift("b", 1, a=1)), (loop("y", either((), (), (row,))),))))
+        self.assertGreaterEqual(share(program, (), "x", A)[1], 3)
+        self.assertGreater(self.is_held(program, (), shares_of(program, ())), 10)
+
+    def test_the_order_in_a_round(self):
+        for rows in ([add("b"), add("x", term(1, b=1))], [add("x", term(1, b=1)), add("b")]):
+            program = made(loop("a", *rows), loop("a", either(tuple(rows[:1]), tuple(rows[1:]))))
+            self.assertGreater(self.is_held(program, (), shares_of(program, ())), 10)
+
     def test_inner_loops_with_either(self):
         inner = loop("b", either((add("x"),), (add("y", term(1, x=1)),)))
         for program in [made(loop("a", inner)), made(loop("a", inner, add("b"))), made(loop("a", either((inner,), (add("b", term(1, a=1)),)))),

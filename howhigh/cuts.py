@@ -26,7 +26,7 @@ def cuts(program, name, products):
     trial = Trial(program, name, products, numbers)
     found = []
     for many in range(len(numbers) + 1):
-        for gone in list(combinations(numbers, many)):
+        for gone in combinations(numbers, many):
             if not any([is_within(least, gone) for least in found]) and trial.is_enough(gone):
                 found.append(gone)
     return found
